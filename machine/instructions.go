@@ -1,6 +1,9 @@
 package machine
 
-import "surety/api"
+import (
+	"surety/api"
+	"surety/ranges"
+)
 
 // goesOn is what an instruction tells by which the run does not end.
 const goesOn = 0
@@ -9,6 +12,8 @@ const goesOn = 0
 type instruction interface {
 	// do tells by which kind of outcome the run ends here, or goesOn. The machine stands at the next instruction already, so that only a jump has to say where it goes.
 	do(m *machine) int
+	// flow tells what becomes of a state ahead of it: on the way on, and on the way far off to where it jumps.
+	flow(s api.State) (on, far ranges.Place)
 }
 
 // instructionOf makes an instruction of a right program.

@@ -1,11 +1,11 @@
-// Package machine runs programs that are right.
+// Package machine has the instructions: it runs programs that are right, and tells what becomes of states by them.
 package machine
 
 import "surety/api"
 
 // machine is a run as far as it has come.
 type machine struct {
-	program []instruction
+	program Program
 	regs    [api.Regs]int
 	words   [api.Words]int
 	at      int
@@ -35,11 +35,7 @@ func Trace(p []api.Ins, regs [api.Regs]int, fuel int) []api.Visit {
 }
 
 func start(p []api.Ins, regs [api.Regs]int, fuel int) *machine {
-	program := make([]instruction, 0, len(p))
-	for _, i := range p {
-		program = append(program, instructionOf(i))
-	}
-	return &machine{program: program, regs: regs, fuel: min(max(fuel, 0), api.MaxFuel)}
+	return &machine{program: ProgramOf(p), regs: regs, fuel: min(max(fuel, 0), api.MaxFuel)}
 }
 
 // isReady tells whether there is an instruction to do, and fuel for it. The end is asked for first: behind the last instruction a run ends by END, even without fuel.

@@ -42,6 +42,49 @@ func TestDecodeTakesAnything(t *testing.T) {
 	}
 }
 
+// anyClaims: claims of any kind, at places of any kind.
+func anyClaims(r *rand.Rand) []api.Claim {
+	c := make([]api.Claim, r.Intn(5))
+	for n := range c {
+		c[n] = api.Claim{At: someNumber(r), State: anyState(r)}
+	}
+	return c
+}
+
+func anyState(r *rand.Rand) api.State {
+	s := someState(r)
+	if r.Intn(4) == 0 {
+		for n := range s {
+			s[n] = api.Range{Lo: someNumber(r), Hi: someNumber(r)}
+		}
+	}
+	return s
+}
+
+// P1: whatever Check is given, it answers, and as P5 says; without an error there is no place.
+func TestCheckTakesAnything(t *testing.T) {
+	r := rand.New(rand.NewSource(15))
+	for range 20000 {
+		p, entry, c := anyProgram(r), anyState(r), anyClaims(r)
+		want, wantAt := wantCheck(p, entry, c)
+		if e, at := Check(p, entry, c); e != want || at != wantAt {
+			t.Fatalf("P1: Check(%v, %v, %v) = %d, %d, want %d, %d", p, entry, c, e, at, want, wantAt)
+		}
+	}
+}
+
+func TestCheckTakesManyClaims(t *testing.T) {
+	c := make([]api.Claim, 100000)
+	for n := range c {
+		c[n] = api.Claim{At: n, State: wide(nil)}
+	}
+	p := make([]api.Ins, 64)
+	for at := range p {
+		p[at] = api.Ins{Op: api.Jump, K: at}
+	}
+	wantChecked(t, []checked{{p, wide(nil), c, api.ErrCert, 64}, {p, wide(nil), c[:64], api.OK, 0}})
+}
+
 // P2: neither a list that is handed in nor its spare room is written into.
 func TestCallsLeaveTheirArguments(t *testing.T) {
 	r := rand.New(rand.NewSource(10))
@@ -54,8 +97,27 @@ func TestCallsLeaveTheirArguments(t *testing.T) {
 		Encode(lent)
 		Run(lent, someRegs(r), 50)
 		Trace(lent, someRegs(r), 50)
+		Check(lent, someState(r), nil)
 		if !slices.Equal(whole, before) {
 			t.Fatalf("P2: %v was made %v", before, whole)
+		}
+	}
+}
+
+func TestCheckLeavesItsArguments(t *testing.T) {
+	r := rand.New(rand.NewSource(16))
+	for range 2000 {
+		p, entry := tameProgram(r), tameEntry(r)
+		c := settled(p, entry)
+		whole := append(slices.Clone(c), anyClaims(r)...)
+		programBefore, claimsBefore := slices.Clone(p), slices.Clone(whole)
+		first, firstAt := Check(p, entry, whole[:len(c)])
+		second, secondAt := Check(p, entry, whole[:len(c)])
+		if !slices.Equal(p, programBefore) || !slices.Equal(whole, claimsBefore) {
+			t.Fatalf("P2: Check wrote into %v or %v", programBefore, claimsBefore)
+		}
+		if first != second || firstAt != secondAt {
+			t.Fatalf("P2: Check of %v answers %d, %d, then %d, %d", p, first, firstAt, second, secondAt)
 		}
 	}
 }

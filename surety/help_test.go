@@ -7,7 +7,7 @@ import (
 )
 
 // edges: numbers at which something the document says changes.
-var edges = []int{api.Least, api.Least + 1, -1 << 32, -256, -16, -8, -2, -1, 0, 1, 2, 7, 8, 15, 16, 63, 64, 255, 256, 1 << 31, 1 << 32, 1 << 62, api.Most - 1, api.Most}
+var edges = []int{api.Least, api.Least + 1, -1 << 32, -1<<31 - 1, -1 << 31, -256, -16, -8, -2, -1, 0, 1, 2, 7, 8, 15, 16, 63, 64, 255, 256, 1 << 31, 1<<31 + 1, 1 << 32, 1 << 62, api.Most - 1, api.Most}
 
 // needed: the fields of each op, in the document's words.
 var needed = [12]string{"", "AK", "AB", "ABC", "ABC", "ABC", "ABC", "AB", "AB", "K", "ABK", "ABK"}

@@ -5,6 +5,7 @@ import (
 	"surety/api"
 	"surety/code"
 	"surety/machine"
+	"surety/proof"
 )
 
 // Thread is a program that was taken.
@@ -41,7 +42,12 @@ func Trace(p []api.Ins, regs [api.Regs]int, fuel int) ([]api.Visit, api.Errno) {
 }
 
 // Check checks a certificate (P5).
-func Check(p []api.Ins, entry api.State, c []api.Claim) (api.Errno, int) { return api.OK, 0 }
+func Check(p []api.Ins, entry api.State, c []api.Claim) (api.Errno, int) {
+	if e, at := code.Right(p); e != api.OK {
+		return e, at
+	}
+	return proof.Check(p, entry, c)
+}
 
 // Prove finds a certificate (P6).
 func Prove(p []api.Ins, entry api.State) ([]api.Claim, api.Errno, int) { return nil, api.OK, 0 }
