@@ -14,18 +14,18 @@ type machine struct {
 	outcome api.Outcome // its Kind is goesOn till the run has ended
 }
 
-// Run runs a right program to its end.
-func Run(p []api.Ins, regs [api.Regs]int, fuel int) api.Outcome {
-	m := start(p, regs, fuel)
+// Run runs a program to its end.
+func (p Program) Run(regs [api.Regs]int, fuel int) api.Outcome {
+	m := p.start(regs, fuel)
 	for m.isReady() {
 		m.step()
 	}
 	return m.outcome
 }
 
-// Trace runs a right program and tells the first instructions that it does.
-func Trace(p []api.Ins, regs [api.Regs]int, fuel int) []api.Visit {
-	m := start(p, regs, fuel)
+// Trace runs a program and tells the first instructions that it does.
+func (p Program) Trace(regs [api.Regs]int, fuel int) []api.Visit {
+	m := p.start(regs, fuel)
 	var visits []api.Visit
 	for len(visits) < api.MaxVisits && m.isReady() {
 		visits = append(visits, api.Visit{At: m.at, Regs: m.regs})
@@ -34,8 +34,8 @@ func Trace(p []api.Ins, regs [api.Regs]int, fuel int) []api.Visit {
 	return visits
 }
 
-func start(p []api.Ins, regs [api.Regs]int, fuel int) *machine {
-	return &machine{program: ProgramOf(p), regs: regs, fuel: min(max(fuel, 0), api.MaxFuel)}
+func (p Program) start(regs [api.Regs]int, fuel int) *machine {
+	return &machine{program: p, regs: regs, fuel: min(max(fuel, 0), api.MaxFuel)}
 }
 
 // isReady tells whether there is an instruction to do, and fuel for it. The end is asked for first: behind the last instruction a run ends by END, even without fuel.

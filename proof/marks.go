@@ -17,6 +17,17 @@ func marksOf(p machine.Program) []bool {
 	return marks
 }
 
+// backsOf tells of each instruction whether some jump goes back to it: one that stands there, or behind it.
+func backsOf(p machine.Program) []bool {
+	backs := make([]bool, len(p))
+	for at := range p {
+		if k, jumps := p.Target(at); jumps && k <= at {
+			backs[k] = true
+		}
+	}
+	return backs
+}
+
 // firstWrong is the number of the first claim that is not right, or how many there are, if all are.
 func firstWrong(marks []bool, c []api.Claim) int {
 	last := -1
@@ -36,4 +47,15 @@ func layOut(count int, c []api.Claim) []ranges.Place {
 		claimed[claim.At] = ranges.With(claim.State)
 	}
 	return claimed
+}
+
+// claimsOf has a claim for each place that has a state.
+func claimsOf(states []ranges.Place) []api.Claim {
+	var c []api.Claim
+	for at, place := range states {
+		if place.Reached {
+			c = append(c, api.Claim{At: at, State: place.State})
+		}
+	}
+	return c
 }

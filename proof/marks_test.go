@@ -25,6 +25,23 @@ func TestMarks(t *testing.T) {
 	}
 }
 
+func TestBacks(t *testing.T) {
+	p := []api.Ins{
+		{Op: api.Jump, K: 1},
+		{Op: api.Less, A: 1, B: 2, K: 4},
+		{Op: api.Same, A: 1, B: 2, K: 2},
+		{Op: api.Halt},
+		{Op: api.Set, A: 2, K: 4},
+		{Op: api.Less, A: 3, B: 3, K: 4},
+		{Op: api.Jump, K: 7},
+		{Op: api.Jump, K: 0},
+	}
+	want := []bool{true, false, true, false, true, false, false, false}
+	if got := backsOf(machine.ProgramOf(p)); !slices.Equal(got, want) {
+		t.Errorf("P6: jumps go back to %v, want %v", got, want)
+	}
+}
+
 func TestFirstWrong(t *testing.T) {
 	marks := []bool{true, false, true, true}
 	empty := api.State{}
@@ -55,5 +72,16 @@ func TestLayOut(t *testing.T) {
 	want := []ranges.Place{{}, {Reached: true, State: s}, {}}
 	if got := layOut(3, []api.Claim{{At: 1, State: s}}); !slices.Equal(got, want) {
 		t.Errorf("P5: laid out as %v, want %v", got, want)
+	}
+}
+
+func TestClaimsOfPlaces(t *testing.T) {
+	first, last := api.State{{Lo: 3, Hi: 4}}, api.State{{Lo: -1, Hi: 0}}
+	want := []api.Claim{{At: 0, State: first}, {At: 3, State: last}}
+	if got := claimsOf([]ranges.Place{ranges.With(first), {}, {}, ranges.With(last), {}}); !slices.Equal(got, want) {
+		t.Errorf("P6: claims %v, want %v", got, want)
+	}
+	if got := claimsOf(make([]ranges.Place, 3)); len(got) != 0 {
+		t.Errorf("P6: claims %v of unreached places", got)
 	}
 }

@@ -30,10 +30,43 @@ func stateLiesIn(s, other api.State) bool {
 	return true
 }
 
+// Join is the place in which both lie: that of an unreached one and another is the other.
+func (p Place) Join(other Place) Place {
+	return p.joinBy(Join, other)
+}
+
+// Stretch is the join, but that each end of a range of p which is another one in it is as far off as can be.
+func (p Place) Stretch(other Place) Place {
+	return p.joinBy(Stretch, other)
+}
+
+func (p Place) joinBy(join func(r, other api.Range) api.Range, other Place) Place {
+	if !p.Reached {
+		return other
+	}
+	if !other.Reached {
+		return p
+	}
+	for n, r := range p.State {
+		p.State[n] = join(r, other.State[n])
+	}
+	return p
+}
+
 // IsState tells whether no range of s is empty.
 func IsState(s api.State) bool {
 	for _, r := range s {
 		if IsEmpty(r) {
+			return false
+		}
+	}
+	return true
+}
+
+// AreIn tells whether each register is in its range of s.
+func AreIn(regs [api.Regs]int, s api.State) bool {
+	for n, r := range s {
+		if !Has(r, regs[n]) {
 			return false
 		}
 	}

@@ -33,6 +33,23 @@ func LiesIn(r, other api.Range) bool {
 	return Common(r, other) == r
 }
 
+// Join is the range from the lesser Lo to the greater Hi.
+func Join(r, other api.Range) api.Range {
+	return api.Range{Lo: min(r.Lo, other.Lo), Hi: max(r.Hi, other.Hi)}
+}
+
+// Stretch is the join, but that each end which is not r's is as far off as can be.
+func Stretch(r, other api.Range) api.Range {
+	join := Join(r, other)
+	if join.Lo != r.Lo {
+		join.Lo = api.Least
+	}
+	if join.Hi != r.Hi {
+		join.Hi = api.Most
+	}
+	return join
+}
+
 // AreOneNumber tells whether two ranges have just one number, the same.
 func AreOneNumber(r, other api.Range) bool {
 	return r == other && r == Only(r.Lo)

@@ -50,6 +50,27 @@ func TestRangesOfFewNumbers(t *testing.T) {
 	}
 }
 
+func TestJoinsOfFewNumbers(t *testing.T) {
+	for _, old := range small() {
+		for _, other := range small() {
+			join := Join(old, other)
+			if !isIn(old, join) || !isIn(other, join) || join.Lo != old.Lo && join.Lo != other.Lo || join.Hi != old.Hi && join.Hi != other.Hi {
+				t.Errorf("P6: the join of %v and %v is %v", old, other, join)
+			}
+			want := join
+			if other.Lo < old.Lo {
+				want.Lo = api.Least
+			}
+			if other.Hi > old.Hi {
+				want.Hi = api.Most
+			}
+			if got := Stretch(old, other); got != want {
+				t.Errorf("P6: %v stretched for %v is %v, want %v", old, other, got, want)
+			}
+		}
+	}
+}
+
 // spanned is the range of all that op makes of numbers of b and c.
 func spanned(b, c api.Range, op func(m, n int) int) api.Range {
 	out := api.Range{Lo: api.Most, Hi: api.Least}
@@ -163,6 +184,46 @@ func TestPlaces(t *testing.T) {
 		one[n] = r(1, 0)
 		if IsState(one) || !IsState(narrow) {
 			t.Errorf("P5: a state whose register %d has no number is none", n)
+		}
+	}
+}
+
+func TestJoinsOfPlaces(t *testing.T) {
+	var s, other, join, stretched api.State
+	for n := range s {
+		s[n], other[n], join[n], stretched[n] = r(n, n+3), r(0, n+4), r(0, n+4), r(api.Least, api.Most)
+	}
+	stretched[0].Lo = 0
+	for _, c := range []struct{ p, other, join, stretched Place }{
+		{Place{}, Place{}, Place{}, Place{}},
+		{Place{}, With(s), With(s), With(s)},
+		{With(s), Place{}, With(s), With(s)},
+		{With(s), With(s), With(s), With(s)},
+		{With(s), With(other), With(join), With(stretched)},
+		{With(other), With(s), With(other), With(other)},
+	} {
+		if got := c.p.Join(c.other); got != c.join {
+			t.Errorf("P6: the join of %v and %v is %v, want %v", c.p, c.other, got, c.join)
+		}
+		if got := c.p.Stretch(c.other); got != c.stretched {
+			t.Errorf("P6: %v stretched for %v is %v, want %v", c.p, c.other, got, c.stretched)
+		}
+	}
+}
+
+func TestAreIn(t *testing.T) {
+	var s api.State
+	for n := range s {
+		s[n] = r(n-2, n+2)
+	}
+	inside := [api.Regs]int{0, 1, 2, 3, 4, 5, 6, 7}
+	for n := range s {
+		for by, want := range map[int]bool{-3: false, -2: true, 0: true, 2: true, 3: false} {
+			regs := inside
+			regs[n] += by
+			if AreIn(regs, s) != want {
+				t.Errorf("P7: %v are in %v: %t", regs, s, !want)
+			}
 		}
 	}
 }

@@ -73,6 +73,26 @@ func TestCheckTakesAnything(t *testing.T) {
 	}
 }
 
+// P1: so do Prove and Compile, and what they answer are P6's and P7's words; beside an error there are no claims and no thread.
+func TestProveAndCompileTakeAnything(t *testing.T) {
+	r := rand.New(rand.NewSource(17))
+	for range 20000 {
+		p, entry, c := anyProgram(r), anyState(r), anyClaims(r)
+		want, wantErr, wantAt := wantProve(p, entry)
+		if got, e, at := Prove(p, entry); !slices.Equal(got, want) || e != wantErr || at != wantAt {
+			t.Fatalf("P1: Prove(%v, %v) = %v, %d, %d, want %v, %d, %d", p, entry, got, e, at, want, wantErr, wantAt)
+		}
+		wantErr, wantAt = wantCheck(p, entry, c)
+		thread, e, at := Compile(p, entry, c)
+		if e != wantErr || at != wantAt || (thread == nil) != (e != api.OK) {
+			t.Fatalf("P1: Compile(%v, %v, %v) = %v, %d, %d, want %d, %d", p, entry, c, thread, e, at, wantErr, wantAt)
+		}
+		if thread != nil {
+			thread.Run(someRegs(r), someNumber(r))
+		}
+	}
+}
+
 func TestCheckTakesManyClaims(t *testing.T) {
 	c := make([]api.Claim, 100000)
 	for n := range c {
@@ -98,13 +118,15 @@ func TestCallsLeaveTheirArguments(t *testing.T) {
 		Run(lent, someRegs(r), 50)
 		Trace(lent, someRegs(r), 50)
 		Check(lent, someState(r), nil)
+		Prove(lent, someState(r))
+		Compile(lent, someState(r), nil)
 		if !slices.Equal(whole, before) {
 			t.Fatalf("P2: %v was made %v", before, whole)
 		}
 	}
 }
 
-func TestCheckLeavesItsArguments(t *testing.T) {
+func TestCheckAndCompileLeaveTheirArguments(t *testing.T) {
 	r := rand.New(rand.NewSource(16))
 	for range 2000 {
 		p, entry := tameProgram(r), tameEntry(r)
@@ -112,12 +134,16 @@ func TestCheckLeavesItsArguments(t *testing.T) {
 		whole := append(slices.Clone(c), anyClaims(r)...)
 		programBefore, claimsBefore := slices.Clone(p), slices.Clone(whole)
 		first, firstAt := Check(p, entry, whole[:len(c)])
-		second, secondAt := Check(p, entry, whole[:len(c)])
-		if !slices.Equal(p, programBefore) || !slices.Equal(whole, claimsBefore) {
-			t.Fatalf("P2: Check wrote into %v or %v", programBefore, claimsBefore)
+		thread, second, secondAt := Compile(p, entry, whole[:len(c)])
+		if thread != nil {
+			thread.Run(regsWithin(r, entry), 100)
 		}
-		if first != second || firstAt != secondAt {
-			t.Fatalf("P2: Check of %v answers %d, %d, then %d, %d", p, first, firstAt, second, secondAt)
+		third, thirdAt := Check(p, entry, whole[:len(c)])
+		if !slices.Equal(p, programBefore) || !slices.Equal(whole, claimsBefore) {
+			t.Fatalf("P2: Check or Compile wrote into %v or %v", programBefore, claimsBefore)
+		}
+		if first != second || firstAt != secondAt || first != third || firstAt != thirdAt {
+			t.Fatalf("P2: of %v Check answers %d, %d, Compile %d, %d, Check then %d, %d", p, first, firstAt, second, secondAt, third, thirdAt)
 		}
 	}
 }
@@ -143,6 +169,19 @@ func TestAnswersAreFresh(t *testing.T) {
 	if !slices.Equal(secondVisits, want) || !slices.Equal(thirdVisits, want) {
 		t.Errorf("P2: Trace after its answer was written into: %v, %v", secondVisits, thirdVisits)
 	}
+}
+
+func TestClaimsAreFresh(t *testing.T) {
+	first, _, _ := Prove(sums, wide(nil))
+	second, _, _ := Prove(sums, wide(nil))
+	want := settled(sums, wide(nil))
+	spoilClaims(first)
+	third, _, _ := Prove(sums, wide(nil))
+	if !slices.Equal(second, want) || !slices.Equal(third, want) {
+		t.Errorf("P2: Prove after its answer was written into: %v, %v", second, third)
+	}
+	spoilClaims(second)
+	wantChecked(t, []checked{{sums, wide(nil), third, api.OK, 0}})
 }
 
 func spoilProgram(p []api.Ins) {

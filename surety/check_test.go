@@ -56,52 +56,6 @@ func wantCheck(p []api.Ins, entry api.State, c []api.Claim) (api.Errno, int) {
 	return api.OK, 0
 }
 
-// settled: claims that hold of a program, found by going over it till nothing changes; bounds that change often become LEAST or MOST.
-func settled(p []api.Ins, entry api.State) []api.Claim {
-	marks, states := marksIn(p), map[int]*api.State{}
-	for round, changes := 0, true; changes; round++ {
-		changes = false
-		come := func(s *api.State, mark int) {
-			old := states[mark]
-			if s == nil || old != nil && within(*s, *old) {
-				return
-			}
-			wider := *s
-			if old != nil {
-				wider = joined(*s, *old)
-				for n := range wider {
-					if round > 3 && wider[n].Lo != old[n].Lo {
-						wider[n].Lo = api.Least
-					}
-					if round > 3 && wider[n].Hi != old[n].Hi {
-						wider[n].Hi = api.Most
-					}
-				}
-			}
-			states[mark], changes = &wider, true
-		}
-		s := &entry
-		for at, i := range p {
-			if marks[at] {
-				come(s, at)
-				s = states[at]
-			}
-			if s != nil {
-				on, far := becomes(i, *s)
-				come(far, i.K)
-				s = on
-			}
-		}
-	}
-	var c []api.Claim
-	for at := range p {
-		if states[at] != nil {
-			c = append(c, api.Claim{At: at, State: *states[at]})
-		}
-	}
-	return c
-}
-
 // tameProgram: one that often does nothing wrong: it halts here and there, and its numbers are small.
 func tameProgram(r *rand.Rand) []api.Ins {
 	p := rightProgram(r)
@@ -192,59 +146,6 @@ func TestCheckOfMany(t *testing.T) {
 	}
 	if loops < 1000 {
 		t.Errorf("P5: only %d programs with several claims were taken", loops)
-	}
-}
-
-// P5: what is taken ends by DONE or FUEL alone, and is within its claims wherever it comes to a mark.
-func TestWhatCheckTakesRunsWell(t *testing.T) {
-	r := rand.New(rand.NewSource(13))
-	tried := 0
-	for range 30000 {
-		p, entry := tameProgram(r), tameEntry(r)
-		c := spoiled(r, settled(p, entry), len(p))
-		if e, _ := Check(p, entry, c); e != api.OK {
-			continue
-		}
-		tried++
-		claims := map[int]api.State{}
-		for _, claim := range c {
-			claims[claim.At] = claim.State
-		}
-		for range 5 {
-			regs := regsWithin(r, entry)
-			o, visits := walk(p, regs, 200)
-			if o.Kind != api.Done && o.Kind != api.Fuel {
-				t.Fatalf("P5: %v was taken with %v, %v, and from %v it ends by %+v", p, entry, c, regs, o)
-			}
-			wantVisitsWithin(t, p, visits, claims)
-		}
-	}
-	if tried < 5000 {
-		t.Errorf("P5: only %d programs were taken", tried)
-	}
-}
-
-func regsWithin(r *rand.Rand, s api.State) [api.Regs]int {
-	regs := someRegs(r)
-	for n := range regs {
-		regs[n] = min(max(regs[n], s[n].Lo), s[n].Hi)
-	}
-	return regs
-}
-
-func wantVisitsWithin(t *testing.T, p []api.Ins, visits []api.Visit, claims map[int]api.State) {
-	t.Helper()
-	marks := marksIn(p)
-	for _, v := range visits {
-		if !marks[v.At] {
-			continue
-		}
-		s, claimed := claims[v.At]
-		for n := range v.Regs {
-			if !claimed || !holds(s[n], v.Regs[n]) {
-				t.Fatalf("P5: %v comes to %d with %v, claimed was %v", p, v.At, v.Regs, s)
-			}
-		}
 	}
 }
 
